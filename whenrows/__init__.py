@@ -1,0 +1,1 @@
+"""Whenrows: tables whose rows hold for stretches of time."""
