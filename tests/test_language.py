@@ -39,6 +39,11 @@ ALLOWED = tuple(getattr(ast, name) for name in """
     Eq NotEq Lt LtE Gt GtE Is IsNot In NotIn
 """.split())
 
+# What an object's methods may be called though Python's own values have such methods, beside those of METHODS.
+METHODS_TOO = {"add", "discard"}
+VALUES_TOO = set("count index title find get join lower upper split strip copy add".split())
+PYTHONS_OWN = {name for value in ("", 0, [], {}, set(), b"") for name in dir(value) if not name.startswith("__")}
+
 OWN_UNDERSCORES = ("__init__", "__eq__", "__repr__", "__str__", "__len__")
 FILES = sorted(path for path in PACKAGE.rglob("*") if "__pycache__" not in path.parts)
 TREES = {path: ast.parse(path.read_text(encoding="ascii")) for path in FILES}
@@ -76,11 +81,39 @@ def module_path(name):
     return PACKAGE.parent / (name.replace(".", "/") + ".py")
 
 
+def own_values():
+    return {node.attr for path, node in nodes(ast.Attribute) if isinstance(node.ctx, ast.Store)}
+
+
+def own_methods(node):
+    return [method.name for method in node.body if isinstance(method, ast.FunctionDef)]
+
+
 def own_members():
-    names = {node.attr for path, node in nodes(ast.Attribute) if isinstance(node.ctx, ast.Store)}
-    for path, node in nodes(ast.ClassDef):
-        names.update(method.name for method in node.body if isinstance(method, ast.FunctionDef))
-    return names
+    return own_values().union(*[own_methods(node) for path, node in nodes(ast.ClassDef)])
+
+
+def called(node):
+    """The name of what is called straight by its name, or None."""
+    return node.func.id if isinstance(node, ast.Call) and isinstance(node.func, ast.Name) else None
+
+
+def sets_in_place(tree):
+    """The calls of set(..) that stand where a set may: in sorted(..) or len(..), beside in, == or !=."""
+    places = []
+    for node in ast.walk(tree):
+        if called(node) in ("sorted", "len") and not node.keywords:
+            places.extend(node.args)
+        if isinstance(node, ast.Compare) and isinstance(node.ops[0], (ast.In, ast.NotIn, ast.Eq, ast.NotEq)):
+            places.extend([node.left] + node.comparators)
+    found = []
+    while places:
+        place = places.pop()
+        if isinstance(place, ast.BinOp):
+            places.extend([place.left, place.right])
+        if called(place) == "set":
+            found.append(place)
+    return found
 
 
 class TestFiles(unittest.TestCase):
@@ -180,6 +213,27 @@ class TestCode(unittest.TestCase):
         own = own_members()
         for path, node in nodes(ast.Attribute):
             self.assertIn(node.attr, METHODS | own | set(OWN_UNDERSCORES), path)
+
+    def test_names_of_members(self):
+        methods = [name for path, node in nodes(ast.ClassDef) for name in own_methods(node)]
+        self.assertFalse(set(methods) & own_values())
+        self.assertFalse(own_values() & PYTHONS_OWN - VALUES_TOO)
+        self.assertFalse(set(methods) & PYTHONS_OWN - METHODS - METHODS_TOO)
+        for path, node in nodes(ast.ClassDef):
+            self.assertEqual(len(own_methods(node)), len(set(own_methods(node))), (path, node.name))
+
+    def test_init_gives_back_nothing(self):
+        for path, node in nodes(ast.FunctionDef):
+            if node.name == "__init__":
+                self.assertFalse([part for part in ast.walk(node) if isinstance(part, ast.Return)], path)
+
+    def test_sets_are_not_kept_and_not_walked(self):
+        self.assertEqual(nodes(ast.Set), [])
+        for path, tree in TREES.items():
+            in_place = sets_in_place(tree)
+            for node in ast.walk(tree):
+                if called(node) in ("set", "frozenset"):
+                    self.assertIn(node, in_place, (path, node.lineno))
 
     def test_statements(self):
         for path, node in nodes(ast.Assign):
