@@ -116,6 +116,29 @@ def sets_in_place(tree):
     return found
 
 
+def kept_at_top(tree):
+    """The names that stand for a list or dict at a file's top."""
+    kept = [node for node in tree.body if isinstance(node, ast.Assign) and isinstance(node.value, (ast.List, ast.Dict))]
+    return {node.targets[0].id for node in kept}
+
+
+def only_read(tree):
+    """The names that stand where a list or dict is only read: at an index, behind in, walked, copied, asked."""
+    places = []
+    for node in ast.walk(tree):
+        if isinstance(node, ast.Subscript) and isinstance(node.ctx, ast.Load):
+            places.append(node.value)
+        if isinstance(node, ast.Attribute) and node.attr in ("get", "items", "keys", "values", "index", "count"):
+            places.append(node.value)
+        if isinstance(node, ast.Compare) and isinstance(node.ops[0], (ast.In, ast.NotIn, ast.Eq, ast.NotEq)):
+            places.extend([node.left] + node.comparators)
+        if isinstance(node, (ast.For, ast.comprehension)):
+            places.append(node.iter)
+        if called(node) in ("len", "list", "dict", "sorted"):
+            places.extend(node.args)
+    return [place for place in places if isinstance(place, ast.Name)]
+
+
 class TestFiles(unittest.TestCase):
     def test_names_of_files(self):
         self.assertIn(PACKAGE / "__init__.py", FILES)
@@ -149,6 +172,25 @@ class TestCode(unittest.TestCase):
                 self.assertIsInstance(node, (ast.ImportFrom, ast.FunctionDef, ast.ClassDef, ast.Assign), path)
             names = [node.name for node in tree.body if isinstance(node, (ast.FunctionDef, ast.ClassDef))]
             self.assertEqual(len(names), len(set(names)), path)
+
+    def test_plain_values_at_the_top(self):
+        for path, tree in TREES.items():
+            for node in tree.body:
+                if isinstance(node, ast.Assign):
+                    value = ast.literal_eval(node.value)
+                    within = value.values() if isinstance(value, dict) else value if isinstance(value, list) else []
+                    self.assertFalse([part for part in within if isinstance(part, (list, dict))], path)
+
+    def test_what_is_kept_at_the_top_is_only_read(self):
+        for path, tree in TREES.items():
+            kept = kept_at_top(tree)
+            read = only_read(tree)
+            for node in ast.walk(tree):
+                if isinstance(node, ast.Name) and isinstance(node.ctx, ast.Load) and node.id in kept:
+                    self.assertIn(node, read, (path, node.lineno))
+        kept_anywhere = set().union(*[kept_at_top(tree) for tree in TREES.values()])
+        for path, node in nodes(ast.ImportFrom):
+            self.assertFalse({alias.name for alias in node.names} & kept_anywhere, path)
 
     def test_imports_from_the_file_that_defines(self):
         for path, node in nodes(ast.ImportFrom):

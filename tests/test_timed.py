@@ -3,6 +3,7 @@ from copy import deepcopy
 from itertools import combinations, product
 
 from asking import KINDS, WIDTHS, Asker, answer_set, holding, lists_within, telling_moments
+from forms import SheetTest
 from moments import ALL_SPANS, FAR, MOMENTS, moments_in, span_of
 from whenrows.questions import plain
 from whenrows.sheets import cut_at, sheet_bounds
@@ -17,29 +18,7 @@ SHEETS = {
 COUNT = ("count",)
 
 
-class TimedTest(unittest.TestCase):
-    def assert_form(self, sheet):
-        self.assertIs(type(sheet), list)
-        rows = [row for row, span in sheet]
-        self.assertEqual(rows, sorted(set(rows)))
-        self.assertLessEqual(len({len(row) for row in rows}), 1)
-        for entry in sheet:
-            self.assertIs(type(entry), tuple)
-            self.assertIs(type(entry[0]), tuple)
-            self.assert_span(entry[1])
-
-    def assert_span(self, span):
-        self.assertIs(type(span), list)
-        self.assertNotEqual(span, [])
-        for stretch in span:
-            self.assertIs(type(stretch), tuple)
-            start, end = stretch
-            self.assertTrue(start is None or end is None or start < end, span)
-        for one, other in zip(span, span[1:]):
-            self.assertIsNotNone(one[1], span)
-            self.assertIsNotNone(other[0], span)
-            self.assertLess(one[1], other[0], span)
-
+class TimedTest(SheetTest):
     def assert_right(self, question, sheets):
         """The answer has the one form, and cut at any moment it is the plain answer to the sheets cut then."""
         handed_in = deepcopy((question, sheets))

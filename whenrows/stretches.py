@@ -1,9 +1,16 @@
 """Stretches of time, and spans: lists of stretches in order, none touching or overlapping another."""
 
+from whenrows.errors import NoStretch
+
 
 def is_stretch(start, end):
     """Whether some moment lies between start and end."""
     return start is None or end is None or start < end
+
+
+def refuse_no_stretch(start, end):
+    if not is_stretch(start, end):
+        raise NoStretch("the start of a stretch must be below its end")
 
 
 def tidied(stretches):

@@ -2,7 +2,7 @@
 
 from whenrows.conditions import meets
 from whenrows.questions import cells_in, parts_of
-from whenrows.sheets import sheet_of
+from whenrows.sheets import facts_of, sheet_of
 from whenrows.stretches import joined, met, taken
 from whenrows.tallies import tallied
 
@@ -34,11 +34,7 @@ def asked_over(question, within):
 
 
 def columns_over_time(columns, sheet):
-    facts = []
-    for row, span in sheet:
-        cells = cells_in(row, columns)
-        facts.extend([(cells, start, end) for start, end in span])
-    return sheet_of(facts)
+    return sheet_of(facts_of([(cells_in(row, columns), span) for row, span in sheet]))
 
 
 def groups_over_time(columns, sums, sheet):
